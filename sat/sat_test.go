@@ -570,15 +570,19 @@ func TestBudget(t *testing.T) {
 		if len(e.Log()) != budget {
 			t.Error(budget, len(e.Log()))
 		}
-		// what is known at once is told, and asks for nothing
-		before := e.Conflicts()
+		// some can't be at once, but whether the clauses alone can nobody knows
 		for i, assume := range [][]int{{1, -1}, {5, 3, -2, 2}, {1, 7}} { // two pigeons in one hole
+			before := e.Conflicts()
 			r, err := e.Solve(assume...)
-			if err != nil || r.Sat || len(r.Core) != 2 {
+			if err != api.ErrBudget || !reflect.DeepEqual(r, api.Result{}) || e.Conflicts() != before+1 {
 				t.Error(budget, i, r, err)
 			}
-			endsWith(t, e.Log(), r.Core)
 		}
+		if len(e.Log()) != budget {
+			t.Error(budget, len(e.Log()))
+		}
+		// what is known at once is told, and asks for nothing
+		before := e.Conflicts()
 		if !e.Add(1) || !e.Add(-1) {
 			t.Error(budget)
 		}
@@ -595,8 +599,86 @@ func TestBudget(t *testing.T) {
 	}
 }
 
-// As long as conflicts may come the clauses alone are looked at too, and that may
-// use the budget up.
+// eight is all clauses of three literals of three variables: they can't be true.
+func eight() api.CNF {
+	c := api.CNF{Vars: 3}
+	for _, x := range []int{1, -1} {
+		for _, y := range []int{2, -2} {
+			c.Clauses = append(c.Clauses, []int{x, y, 3}, []int{x, y, -3})
+		}
+	}
+	return c
+}
+
+// Where the budget is used up and the clauses alone can't be true, none of assume
+// is blamed.
+func TestBudgetBlamesNobody(t *testing.T) {
+	for _, s := range scripts {
+		for budget := range 6 {
+			s.Conflicts = budget
+			for _, l := range []int{1, -1, 2, -2, 3, -3} {
+				e := of(t, eight(), s)
+				for range 2 {
+					r, err := e.Solve(l)
+					if none := reflect.DeepEqual(r, api.Result{}); !none || err != nil && err != api.ErrBudget || err != nil && s.Conflicts == 0 {
+						t.Error(s, l, r, err)
+					}
+				}
+			}
+		}
+	}
+	c := holes(3)
+	c.Vars = 13
+	c.Clauses = append(c.Clauses, []int{-13})
+	e := of(t, c, api.Script{Conflicts: 1})
+	for i, assume := range [][]int{nil, {13}, {1, -1}, {13, -13}, {2, 13, 1}, nil} {
+		if r, err := e.Solve(assume...); err != api.ErrBudget || !reflect.DeepEqual(r, api.Result{}) {
+			t.Error(i, r, err)
+		}
+	}
+	(&base{vars: c.Vars, added: c.Clauses}).take(t, e.Log())
+}
+
+// Where the clauses alone are known to be able to be true, or that is found at
+// once, Core is some of assume, also when the budget is used up.
+func TestBudgetAndCore(t *testing.T) {
+	for _, known := range []bool{false, true} { // with sign 1 it would not be found at once
+		sign := 2
+		if known {
+			sign = 1
+		}
+		c := holes(4)
+		gate := c.Vars + 1
+		for i, d := range c.Clauses {
+			c.Clauses[i] = append(d, -gate)
+		}
+		c.Vars++
+		e := of(t, c, api.Script{Conflicts: 2, Sign: []int{sign}})
+		if known {
+			if r, err := e.Solve(-gate); err != nil || !r.Sat {
+				t.Error(r, err)
+			}
+		}
+		if r, err := e.Solve(gate); err != api.ErrBudget {
+			t.Error(r, err)
+		}
+		e.Add(-1, 2)
+		before := e.Conflicts()
+		for i, assume := range [][]int{{3, 1, -1}, {3, -2, 1}, {gate, 3, -gate}} {
+			r, err := e.Solve(assume...)
+			if err != nil || r.Sat || !lits.Same(r.Core, [][]int{{1, -1}, {1, -2}, {gate, -gate}}[i]) {
+				t.Error(known, i, r, err)
+			}
+			endsWith(t, e.Log(), r.Core)
+		}
+		if e.Conflicts() != before {
+			t.Error(known, e.Conflicts())
+		}
+		(&base{vars: c.Vars, added: append(c.Clauses, []int{-1, 2})}).take(t, e.Log())
+	}
+}
+
+// The clauses alone are looked at too, and that may use the budget up.
 func TestBudgetOfTheClausesAlone(t *testing.T) {
 	c := holes(6)
 	for i, x := range []struct {
@@ -657,12 +739,7 @@ func TestBudgetsAgainstAllValues(t *testing.T) {
 				told++
 				continue
 			}
-			if x.Sat != canBe(t, vars, b.added, assume) || !x.Sat && canBe(t, vars, b.added, x.Core) {
-				t.Fatal(x)
-			}
-			if before < s.Conflicts && e.Conflicts() < s.Conflicts {
-				judge(t, vars, b.added, assume, x)
-			}
+			judge(t, vars, b.added, assume, x)
 		}
 	}
 	if told < 100 {
